@@ -5,7 +5,6 @@ import (
 	"slices"
 
 	"debenture/api"
-	"debenture/block"
 	"debenture/event"
 	"debenture/obs"
 )
@@ -85,16 +84,13 @@ func (g *Engine) Audit() api.Errno {
 	if err := g.err(); err != api.OK {
 		return err
 	}
-	pairs, err := all(g.store, eventKey)
+	r := &replay{contracts: map[string]event.Contract{}, filed: map[string]event.Contract{}, fixings: map[string][]obs.Fixing{}, accounts: map[place]int64{}}
+	err := each(g.store, eventKey, func(key, value string) bool {
+		e, err := event.Decode(value)
+		return err == api.OK && key == numberKey(r.count) && r.happen(e)
+	})
 	if err != api.OK {
 		return err
-	}
-	r := &replay{contracts: map[string]event.Contract{}, filed: map[string]event.Contract{}, fixings: map[string][]obs.Fixing{}, accounts: map[place]int64{}}
-	for i, p := range pairs {
-		e, err := event.Decode(p.Value)
-		if err != api.OK || p.Key != numberKey(i) || !r.happen(e) {
-			return api.ErrCorrupt
-		}
 	}
 	return g.matches(r)
 }
@@ -115,17 +111,20 @@ func (g *Engine) matches(r *replay) api.Errno {
 	}
 	for _, kind := range []struct {
 		begin string
-		count int
-		same  func(block.Pair) bool
+		left  int // how many are to come
+		has   func(key, value string) bool
 	}{
 		{contractKey, len(r.contracts), r.hasContract}, {filedKey, len(r.filed), r.hasFiled},
 		{accountKey, len(r.accounts), r.hasAccount}, {fixingKey, fixings, r.hasFixing},
 	} {
-		pairs, err := all(g.store, kind.begin)
+		err := each(g.store, kind.begin, func(key, value string) bool {
+			kind.left--
+			return kind.has(key, value)
+		})
 		if err != api.OK {
 			return err
 		}
-		if len(pairs) != kind.count || slices.ContainsFunc(pairs, func(p block.Pair) bool { return !kind.same(p) }) {
+		if kind.left != 0 {
 			return api.ErrCorrupt
 		}
 	}
@@ -133,25 +132,25 @@ func (g *Engine) matches(r *replay) api.Errno {
 }
 
 // hasContract tells whether a pair is a contract's.
-func (r *replay) hasContract(p block.Pair) bool {
-	c, ok := takeContract(p)
+func (r *replay) hasContract(key, value string) bool {
+	c, ok := takeContract(key, value)
 	return ok && event.Same(c, r.contracts[c.Id])
 }
 
 // hasFiled tells whether a pair is a filed contract's.
-func (r *replay) hasFiled(p block.Pair) bool {
-	c, ok := takeContract(p)
+func (r *replay) hasFiled(key, value string) bool {
+	c, ok := takeContract(key, value)
 	return ok && event.Same(c, r.filed[c.Id])
 }
 
 // hasAccount tells whether a pair is an account's.
-func (r *replay) hasAccount(p block.Pair) bool {
-	a, ok := takeAccount(p)
+func (r *replay) hasAccount(key, value string) bool {
+	a, ok := takeAccount(key, value)
 	return ok && r.accounts[place{a.Party, a.Coin}] == a.Amount
 }
 
 // hasFixing tells whether a pair is a fixing's.
-func (r *replay) hasFixing(p block.Pair) bool {
-	f, ok := takeFixing(p)
+func (r *replay) hasFixing(key, value string) bool {
+	f, ok := takeFixing(key, value)
 	return ok && slices.Contains(r.fixings[f.Name], f)
 }

@@ -7,7 +7,6 @@ import (
 	"strings"
 
 	"debenture/api"
-	"debenture/block"
 	"debenture/codec"
 	"debenture/event"
 	"debenture/ledger"
@@ -56,9 +55,18 @@ func beyond(begin string) string {
 	return strings.TrimSuffix(begin, ".") + "/"
 }
 
-// all is all pairs whose keys begin so.
-func all(s *lsm.Store, begin string) ([]block.Pair, api.Errno) {
-	return s.Scan(begin, beyond(begin), math.MaxInt)
+// each hands in all pairs whose keys begin so, up to one that isn't right.
+func each(s *lsm.Store, begin string, right func(key, value string) bool) api.Errno {
+	pairs, err := s.Scan(begin, beyond(begin), math.MaxInt)
+	if err != api.OK {
+		return err
+	}
+	for _, p := range pairs {
+		if !right(p.Key, p.Value) {
+			return api.ErrCorrupt
+		}
+	}
+	return api.OK
 }
 
 // signed is the bytes of an amount.
@@ -81,26 +89,26 @@ func takeMain(s string) (int, int, bool) {
 }
 
 // takeAccount is the account of a pair.
-func takeAccount(p block.Pair) (ledger.Account, bool) {
-	party, coin, _ := strings.Cut(p.Key[len(accountKey):], ".")
-	n, ok := takeSigned(p.Value)
+func takeAccount(key, value string) (ledger.Account, bool) {
+	party, coin, _ := strings.Cut(key[len(accountKey):], ".")
+	n, ok := takeSigned(value)
 	return ledger.Account{Party: party, Coin: coin, Amount: n}, ok && n != 0 && lex.Named(party) && lex.Named(coin)
 }
 
 // takeFixing is the fixing of a pair.
-func takeFixing(p block.Pair) (obs.Fixing, bool) {
-	name, text, _ := strings.Cut(p.Key[len(fixingKey):], ".")
+func takeFixing(key, value string) (obs.Fixing, bool) {
+	name, text, _ := strings.Cut(key[len(fixingKey):], ".")
 	less, err := strconv.Atoi(text)
-	n, ok := takeSigned(p.Value)
+	n, ok := takeSigned(value)
 	f := obs.Fixing{Name: name, Day: api.MaxDay - less, Value: n}
-	return f, ok && err == nil && less >= 0 && f.Day >= 0 && lex.Named(name) && p.Key == datedKey(name, f.Day)
+	return f, ok && err == nil && less >= 0 && f.Day >= 0 && lex.Named(name) && key == datedKey(name, f.Day)
 }
 
 // takeContract is the contract of a pair.
-func takeContract(p block.Pair) (event.Contract, bool) {
-	c, err := event.Unpack(p.Value)
-	filed := strings.HasPrefix(p.Key, filedKey)
-	return c, err == api.OK && c.Id == p.Key[len(contractKey):] && !(filed && c.State == event.Open)
+func takeContract(key, value string) (event.Contract, bool) {
+	c, err := event.Unpack(value)
+	filed := strings.HasPrefix(key, filedKey)
+	return c, err == api.OK && c.Id == key[len(contractKey):] && !(filed && c.State == event.Open)
 }
 
 // askedText is what is asked, as a text.
@@ -145,7 +153,7 @@ func (s stored) contract(id string, filed bool) (event.Contract, bool, api.Errno
 	if err != api.OK || !is {
 		return event.Contract{}, false, err
 	}
-	c, ok := takeContract(block.Pair{Key: key, Value: value})
+	c, ok := takeContract(key, value)
 	if !ok {
 		return event.Contract{}, false, api.ErrCorrupt
 	}
@@ -154,21 +162,18 @@ func (s stored) contract(id string, filed bool) (event.Contract, bool, api.Errno
 
 // open is all open contracts, by rising ids.
 func (s stored) open() ([]event.Contract, api.Errno) {
-	pairs, err := all(s.Store, contractKey)
+	var l []event.Contract
+	err := each(s.Store, contractKey, func(key, value string) bool {
+		state, ok := stateOf(value)
+		if ok && state != event.Open {
+			return true
+		}
+		c, is := takeContract(key, value)
+		l = append(l, c)
+		return ok && is
+	})
 	if err != api.OK {
 		return nil, err
-	}
-	var l []event.Contract
-	for _, p := range pairs {
-		state, ok := stateOf(p.Value)
-		if ok && state != event.Open {
-			continue
-		}
-		c, is := takeContract(p)
-		if !ok || !is {
-			return nil, api.ErrCorrupt
-		}
-		l = append(l, c)
 	}
 	return l, api.OK
 }
@@ -192,7 +197,7 @@ func (s stored) fixing(name string, day int) (obs.Fixing, bool, api.Errno) {
 	if err != api.OK || len(pairs) == 0 {
 		return obs.Fixing{}, false, err
 	}
-	f, ok := takeFixing(pairs[0])
+	f, ok := takeFixing(pairs[0].Key, pairs[0].Value)
 	if !ok {
 		return obs.Fixing{}, false, api.ErrCorrupt
 	}
@@ -206,7 +211,7 @@ func (s stored) balance(at place) (int64, api.Errno) {
 	if err != api.OK || !is {
 		return 0, err
 	}
-	a, ok := takeAccount(block.Pair{Key: key, Value: value})
+	a, ok := takeAccount(key, value)
 	if !ok {
 		return 0, api.ErrCorrupt
 	}
