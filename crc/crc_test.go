@@ -33,6 +33,9 @@ func TestSum(t *testing.T) {
 
 // P4.2
 func TestFrame(t *testing.T) {
+	if MaxBody != 131072 || Whole != 0 || Short != 1 || Bad != 2 {
+		t.Error("constants")
+	}
 	r := rand.New(rand.NewSource(2))
 	for _, n := range []int{0, 1, 2, 100, MaxBody} {
 		s := random(r, n)

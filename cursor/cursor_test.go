@@ -115,6 +115,10 @@ func TestMerge(t *testing.T) {
 		if !slices.Equal(got, want) || m.Err() != api.OK {
 			t.Fatal(got, want)
 		}
+		m.First()
+		if len(want) > 0 && m.Pair() != want[0] {
+			t.Fatal("First, again")
+		}
 		key := fmt.Sprint(r.Intn(30))
 		got = nil
 		for m.Seek(key); m.Valid(); m.Next() {
@@ -180,6 +184,13 @@ func TestSpoilt(t *testing.T) {
 	m.Seek("x")
 	if m.Valid() || m.Err() != api.ErrCorrupt {
 		t.Error("it stands at none then")
+	}
+	m = New([]Source{{Kind: List, List: []block.Pair{{Key: inner("a", 1), Value: "P"}}}, {Kind: Table, Table: spoilt(t, "c")}})
+	for range 2 {
+		m.First()
+		if m.Valid() || m.Err() != api.ErrCorrupt {
+			t.Error("the first block isn't whole")
+		}
 	}
 	v := NewView(New([]Source{{Kind: Table, Table: spoilt(t, "ac")}}), 5)
 	v.Seek("a")

@@ -73,7 +73,7 @@ func TestParse(t *testing.T) {
 	if day(t, "1970-01-01") != 0 || day(t, "9999-12-31") != api.MaxDay || day(t, "2024-01-31") != 19753 {
 		t.Error("Parse")
 	}
-	for _, s := range []string{"", "2024-1-31", "2024-01-32", "2024/01/31", "2024-02-30", "1969-12-31", " 2024-01-31", "2024-01-31 ", "2024-01-3a", "+024-01-31", "20240131", "2024-01-3", "-024-01-31", "0000-00-00", "２024-01-3", "2024-13-01", "2024-00-10"} {
+	for _, s := range []string{"", "2024-1-31", "2024-01-32", "2024/01/31", "2024/01-31", "2024-01/31", "2024-0;-01", "2024-1/-10", "202:-01-01", "2024-02-30", "1969-12-31", " 2024-01-31", "2024-01-31 ", "2024-01-3a", "+024-01-31", "20240131", "2024-01-3", "-024-01-31", "0000-00-00", "２024-01-3", "2024-13-01", "2024-00-10"} {
 		if n, ok := Parse(s); n != 0 || ok {
 			t.Error(s, n)
 		}
@@ -185,7 +185,13 @@ func TestSchedule(t *testing.T) {
 	if l, ok = Schedule(start, last+1, 1, api.Unmoved, nil); ok || l != nil {
 		t.Error(len(l))
 	}
-	for _, c := range [][4]int{{-1, 5, 1, 0}, {5, 5, 1, 0}, {6, 5, 1, 0}, {0, api.MaxDay + 1, 1200, 0}, {0, 5, 0, 0}, {0, 5, 1201, 0}, {0, 5, 1, 4}, {0, 5, 1, -1}} {
+	if l, ok = Schedule(0, api.MaxDay, 1200, api.Unmoved, nil); !ok || len(l) != 82 {
+		t.Error(len(l))
+	}
+	if l, ok = Schedule(start, last, 1, api.Following, []int{last - 3, last - 2, last - 1}); !ok || !slices.IsSorted(l) {
+		t.Error(len(l))
+	}
+	for _, c := range [][4]int{{api.MaxDay + 1, api.MaxDay + 5, 1, 0}, {math.MinInt, math.MaxInt, 1, 0}, {-1, 5, 1, 0}, {5, 5, 1, 0}, {6, 5, 1, 0}, {0, api.MaxDay + 1, 1200, 0}, {0, 5, 0, 0}, {0, 5, 1201, 0}, {0, 5, 1, 4}, {0, 5, 1, -1}} {
 		if l, ok := Schedule(c[0], c[1], c[2], c[3], nil); ok || l != nil {
 			t.Error(c, l)
 		}

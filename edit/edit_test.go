@@ -18,10 +18,10 @@ func file(num, level int, first, last string) File {
 
 // P12.1
 func TestBytes(t *testing.T) {
-	e := Edit{5, -1, 1 << 62, []int{3, 0}, []File{{7, 2, "a", strings.Repeat("z", 80), 300, 1 << 20}, {}}}
+	e := Edit{5, -1, 1 << 62, []int{3, 0}, []File{{7, 2, strings.Repeat("a", 80), strings.Repeat("z", 80), 300, 1 << 20}, {}}}
 	s, err := Encode(e)
 	want := new(codec.Writer).Signed(5).Signed(-1).Signed(1 << 62).Size(2).Size(3).Size(0).Size(2).
-		Size(7).Size(2).Text("a").Text(strings.Repeat("z", 80)).Size(300).Size(1 << 20).
+		Size(7).Size(2).Text(strings.Repeat("a", 80)).Text(strings.Repeat("z", 80)).Size(300).Size(1 << 20).
 		Size(0).Size(0).Text("").Text("").Size(0).Size(0).Bytes()
 	if err != api.OK || s != want {
 		t.Errorf("%x %d", s, err)
@@ -38,7 +38,7 @@ func TestBytes(t *testing.T) {
 		t.Error("more")
 	}
 	long := strings.Repeat("k", 81)
-	for _, e := range []Edit{{Log: -2}, {Next: -2}, {Seq: math.MinInt}, {Drop: []int{-1}}, {Drop: make([]int, 101)}, {Add: make([]File, 101)}, {Add: []File{{Num: -1}}}, {Add: []File{{Level: -1}}}, {Add: []File{{Count: -1}}}, {Add: []File{{Size: -1}}}, {Add: []File{{First: long}}}, {Add: []File{{Last: long}}}} {
+	for _, e := range []Edit{{Log: -2}, {Next: -2}, {Seq: -2}, {Seq: math.MinInt}, {Drop: []int{-1}}, {Drop: make([]int, 101)}, {Add: make([]File, 101)}, {Add: []File{{Num: -1}}}, {Add: []File{{Level: -1}}}, {Add: []File{{Count: -1}}}, {Add: []File{{Size: -1}}}, {Add: []File{{First: long}}}, {Add: []File{{Last: long}}}} {
 		if s, err := Encode(e); s != "" || err != api.ErrArg {
 			t.Error(e, err)
 		}
@@ -111,7 +111,7 @@ func TestApply(t *testing.T) {
 	}
 	before := Whole(v)
 	for _, e := range []Edit{
-		{Log: 2, Next: -1, Seq: -1}, {Log: -1, Next: 19, Seq: -1}, {Log: -1, Next: -1, Seq: 6}, {Log: -2, Next: -1, Seq: -1}, {-1, -1, -1, []int{6}, nil}, {-1, -1, -1, []int{1, 1}, nil},
+		{Log: 2, Next: -1, Seq: -1}, {Log: 0, Next: -1, Seq: -1}, {Log: -1, Next: 0, Seq: -1}, {Log: -1, Next: -1, Seq: 0}, {Log: -1, Next: 19, Seq: -1}, {Log: -1, Next: -1, Seq: 6}, {Log: -2, Next: -1, Seq: -1}, {-1, -1, -1, []int{6}, nil}, {-1, -1, -1, []int{1, 1}, nil},
 		{-1, -1, -1, nil, []File{file(4, 0, "a", "a")}}, {-1, -1, -1, nil, []File{file(20, 0, "a", "a")}}, {-1, -1, -1, nil, []File{file(6, 1, "b", "c")}}, {-1, -1, -1, nil, []File{file(6, 5, "b", "c")}},
 		{-1, -1, -1, nil, []File{file(6, 3, "c", "b")}}, {-1, -1, -1, nil, []File{{6, 3, "a", "b", 0, 1}}}, {Log: 1000000, Next: -1, Seq: -1}, {Log: -1, Next: -1, Seq: 1<<62 + 1}, {-1, -1, -1, nil, []File{file(6, 0, "b", "c"), file(6, 0, "b", "c")}},
 	} {
@@ -122,7 +122,7 @@ func TestApply(t *testing.T) {
 	if !reflect.DeepEqual(Whole(v), before) {
 		t.Error("the version was changed")
 	}
-	w, err := Apply(v, Edit{-1, -1, -1, []int{2, 4}, []File{file(4, 1, "c", "d"), file(6, 1, "n", "n")}})
+	w, err := Apply(v, Edit{3, 20, 7, []int{2, 4}, []File{file(4, 1, "c", "d"), file(6, 1, "n", "n")}})
 	if err != api.OK || !reflect.DeepEqual(w, Version{3, 20, 7, []File{file(1, 0, "a", "b"), file(3, 1, "a", "b"), file(4, 1, "c", "d"), file(6, 1, "n", "n"), file(5, 4, "a", "z")}}) {
 		t.Error(w, err)
 	}
@@ -147,6 +147,9 @@ func TestLook(t *testing.T) {
 		t.Error("Level")
 	}
 	if g, ok := Find(v, 3); g != v.Files[1] || !ok {
+		t.Error("Find", g)
+	}
+	if g, ok := Find(v, 5); g != v.Files[0] || !ok {
 		t.Error("Find", g)
 	}
 	if g, ok := Find(v, 1); g != (File{}) || ok {

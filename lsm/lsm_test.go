@@ -13,9 +13,12 @@ import (
 	"debenture/api"
 	"debenture/block"
 	"debenture/codec"
+	"debenture/cursor"
 	"debenture/disk"
+	"debenture/edit"
 	"debenture/level"
 	"debenture/manifest"
+	"debenture/table"
 	"debenture/wal"
 )
 
@@ -266,7 +269,7 @@ func TestOpen(t *testing.T) {
 		"empty": {[]string{""}, api.ErrCorrupt}, "more": {[]string{batchOf(1, a) + "x"}, api.ErrCorrupt}, "cut": {[]string{batchOf(1, a)[:5]}, api.ErrCorrupt},
 		"kind": {[]string{head + "\x01a\x02"}, api.ErrCorrupt}, "no key": {[]string{head + "\x00\x00"}, api.ErrCorrupt}, "key": {[]string{batchOf(1, Op{Key: "a\x00"})}, api.ErrCorrupt},
 		"long key": {[]string{batchOf(1, Op{Key: strings.Repeat("k", 65)})}, api.ErrCorrupt}, "long value": {[]string{batchOf(1, Op{Key: "k", Value: strings.Repeat("v", 15001)})}, api.ErrCorrupt},
-		"fewer": {[]string{new(codec.Writer).Size(1).Size(2).Bytes() + "\x01a\x00"}, api.ErrCorrupt}, "many": {[]string{batchOf(1, make([]Op, 401)...)}, api.ErrCorrupt},
+		"fewer": {[]string{new(codec.Writer).Size(1).Size(2).Bytes() + "\x01a\x00"}, api.ErrCorrupt}, "many": {[]string{batchOf(1, slices.Repeat([]Op{a}, 401)...)}, api.ErrCorrupt}, "400": {[]string{batchOf(1, slices.Repeat([]Op{a}, 400)...)}, api.OK},
 	} {
 		d := disk.New(100000)
 		manifest.Open(d)
@@ -671,6 +674,144 @@ func TestVerify(t *testing.T) {
 		t.Error("a table that needn't be asked", err)
 	}
 	if _, _, err := s.Get("a"); err != api.ErrCorrupt {
+		t.Error(err)
+	}
+}
+
+// P16.3
+func TestCompact(t *testing.T) {
+	d := disk.New(100000)
+	s := opened(t, d, level.Config{Zero: 2, Base: 1 << 20, Times: 2, Table: 1000})
+	for i := range 2 {
+		if ok, err := s.Compact(); ok || err != api.OK || s.Info().Levels[1] != 0 {
+			t.Error("nothing is pressing", i, err)
+		}
+		s.Write([]Op{{Key: fmt.Sprint("k", i), Value: "v"}})
+		s.Flush()
+	}
+	if ok, err := s.Compact(); !ok || err != api.OK || !slices.Equal(s.Info().Levels, []int{0, 1, 0, 0, 0}) {
+		t.Error(s.Info(), err)
+	}
+	if ok, err := s.Compact(); ok || err != api.OK || s.Info().Levels[1] != 1 {
+		t.Error(s.Info(), err)
+	}
+}
+
+// P16.3: tables that would be too many aren't laid
+func TestPushBusy(t *testing.T) {
+	d := disk.New(1 << 20)
+	s := opened(t, d, level.Config{Table: 64})
+	for i := range 101 {
+		s.Write([]Op{{Key: fmt.Sprintf("k%03d", i), Value: strings.Repeat("v", 90)}})
+	}
+	want(t, "Flush", s.Flush(), api.OK)
+	before, calls := s.Info(), d.Calls()
+	if ok, err := s.Push(0); ok || err != api.ErrBusy || !reflect.DeepEqual(s.Info(), before) || d.Calls() != calls {
+		t.Error(s.Info(), err)
+	}
+	s.Write([]Op{{Key: "k000", Gone: true}})
+	want(t, "Flush", s.Flush(), api.OK)
+	if ok, err := s.Push(0); !ok || err != api.OK || s.Info().Levels[1] != 100 {
+		t.Error(s.Info(), err)
+	}
+}
+
+// P16.3: a table ends by just as many bytes
+func TestExact(t *testing.T) {
+	b := table.NewBuilder(blockSize)
+	inner, _ := cursor.Pack("a", 1)
+	b.Add(inner, "P"+strings.Repeat("v", 90))
+	for more, tables := range map[int]int{0: 2, 1: 1} {
+		s := opened(t, disk.New(100000), level.Config{Table: b.Size() + more})
+		s.Write([]Op{{Key: "a", Value: strings.Repeat("v", 90)}, {Key: "b", Value: strings.Repeat("v", 90)}})
+		s.Flush()
+		s.Push(0)
+		if s.Info().Tables != tables {
+			t.Error(more, s.Info())
+		}
+	}
+}
+
+// strange is a store with a table of level 0 of these pairs.
+func strange(t *testing.T, first, last string, l ...block.Pair) *Store {
+	t.Helper()
+	d := disk.New(1 << 20)
+	m, _ := manifest.Open(d)
+	b := table.NewBuilder(64)
+	for _, p := range l {
+		b.Add(p.Key, p.Value)
+	}
+	bytes, meta := b.Finish()
+	num, _ := m.Number()
+	d.Append(manifest.Name(num), bytes)
+	d.Sync(manifest.Name(num))
+	e := edit.Edit{Log: -1, Next: -1, Seq: 9, Add: []edit.File{{Num: num, First: first, Last: last, Count: meta.Count, Size: meta.Size}}}
+	want(t, "Log", m.Log(e), api.OK)
+	return opened(t, d, small)
+}
+
+// P16.2, P16.3: tables of what is no inner pair
+func TestStrange(t *testing.T) {
+	a1, _ := cursor.Pack("a", 1)
+	b1, _ := cursor.Pack("b", 1)
+	good := func() *Store {
+		return strange(t, "a", "b", block.Pair{Key: a1, Value: "P1"}, block.Pair{Key: b1, Value: "D"})
+	}
+	if v, ok, err := good().Get("a"); v != "1" || !ok || err != api.OK {
+		t.Error(v, err)
+	}
+	if v, ok, err := good().Get("b"); v != "" || ok || err != api.OK {
+		t.Error(v, err)
+	}
+	for i, l := range [][]block.Pair{{{Key: a1, Value: "X"}}, {{Key: a1, Value: ""}}, {{Key: a1, Value: "DD"}}, {{Key: "a\x00zz", Value: "P"}}} {
+		make := func() *Store { return strange(t, "a", "b", l...) }
+		if _, _, err := make().Get("a"); err != api.ErrCorrupt {
+			t.Error(i, err)
+		}
+		if _, err := make().Scan("", "", 9); err != api.ErrCorrupt {
+			t.Error(i, err)
+		}
+		s := make()
+		if ok, err := s.Push(0); ok || err != api.ErrCorrupt || s.Err() != api.ErrCorrupt {
+			t.Error(i, err)
+		}
+	}
+}
+
+// P16.2, P16.3: a block that is spoilt
+func TestSpoilt(t *testing.T) {
+	begin := func() *Store {
+		d := disk.New(1 << 20)
+		s := opened(t, d, small)
+		for _, k := range []string{"a", "c", "e"} {
+			s.Write([]Op{{Key: k, Value: strings.Repeat("v", 5000)}})
+		}
+		s.Flush()
+		d.Rot("000001.tab", 8*7000, 1)
+		return opened(t, d, small)
+	}
+	s := begin()
+	if _, ok, err := s.Get("a"); !ok || err != api.OK {
+		t.Error("a block that is whole", err)
+	}
+	if _, ok, err := s.Get("b"); ok || err != api.OK {
+		t.Error("what isn't there needn't be asked", err)
+	}
+	if _, ok, err := s.Get("c"); ok || err != api.ErrCorrupt {
+		t.Error(err)
+	}
+	if _, _, err := s.Get("a"); err != api.ErrCorrupt {
+		t.Error("it stays", err)
+	}
+	s = begin()
+	names := s.d.Names()
+	if ok, err := s.Push(0); ok || err != api.ErrCorrupt || s.Err() != api.ErrCorrupt || !slices.Equal(s.d.Names(), names) {
+		t.Error(err)
+	}
+	if l, err := begin().Scan("a", "", 1); len(l) != 1 || err != api.OK {
+		t.Error("what stands behind isn't asked", err)
+	}
+	if l, err := begin().Scan("a", "", 2); l != nil || err != api.ErrCorrupt {
 		t.Error(err)
 	}
 }

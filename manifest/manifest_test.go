@@ -106,7 +106,14 @@ func TestCorrupt(t *testing.T) {
 			t.Error(what, err)
 		}
 	}
-	d := disk.New(10000)
+	d := disk.New(200)
+	opened(t, d)
+	d.Delete("maa.000000.ack")
+	d.Append("fill", string(make([]byte, d.Free()-11)))
+	if m, err := Open(d); m != nil || err != api.ErrFull {
+		t.Error("no room for the mark that seals", err)
+	}
+	d = disk.New(10000)
 	opened(t, d)
 	d.Rot("maa.000000.log", 70, 1)
 	if _, err := Open(d); err != api.ErrCorrupt {
@@ -227,10 +234,10 @@ func TestOrphans(t *testing.T) {
 	d := disk.New(10000)
 	m := opened(t, d)
 	m.Log(adding(5))
-	for _, name := range []string{"mab.x", "maa.x", "mz.x", "mABx", "MAA.x", "maab.x", "CURRENT.new", "000005.tab", "000006.tab", "000000.tab", "00007.tab", "0000007.tab", "+00007.tab", "000007.tabx", "w.000000.log", "999999.tab"} {
+	for _, name := range []string{"mab.x", "maa.x", "mac.", "mz.x", "xab.x", "m1b.x", "ma1.x", "000001.tab", "mABx", "MAA.x", "maab.x", "CURRENT.new", "000005.tab", "000006.tab", "000000.tab", "00007.tab", "0000007.tab", "+00007.tab", "000007.tabx", "w.000000.log", "999999.tab"} {
 		put(d, name, "")
 	}
-	l := []string{"000006.tab", "999999.tab", "CURRENT.new", "mab.x"}
+	l := []string{"000001.tab", "000006.tab", "999999.tab", "CURRENT.new", "mab.x", "mac."}
 	if !slices.Equal(m.Orphans(), l) {
 		t.Error(m.Orphans())
 	}

@@ -105,6 +105,11 @@ func TestMulDiv(t *testing.T) {
 			t.Error("mode", mode)
 		}
 	}
+	for _, b := range []int64{1<<33 - 1, 1 - 1<<33} { // it is rounded up to 2^64
+		if n, ok := MulDiv(1<<33+1, b, 4, api.Half); n != 0 || ok {
+			t.Error(n)
+		}
+	}
 	for i, want := range []int64{3, 3, 4, 4} {
 		if n, _ := MulDiv(7, 1, 2, i); n != want {
 			t.Error(i, n)
@@ -280,7 +285,7 @@ func TestAmount(t *testing.T) {
 		}
 	}
 	for _, digits := range []int{-1, 10, math.MaxInt} {
-		if _, ok := Amount("1", digits); ok || Print(1, digits) != "" {
+		if _, ok := Amount("1."+strings.Repeat("0", max(0, min(digits, 20))), digits); ok || Print(1, digits) != "" {
 			t.Error(digits)
 		}
 	}

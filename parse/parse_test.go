@@ -132,6 +132,17 @@ func TestDeep(t *testing.T) {
 			t.Errorf("%.20q %d: %d %d", c.s, len(c.s), at, err)
 		}
 	}
+	// What is closed isn't open any more.
+	closed, signs := "one(USD)", "-a"
+	for range 6 {
+		closed, signs = "and("+closed+","+closed+")", "min("+signs+",("+signs+"))"
+	}
+	if c, at, err := Parse(closed); at != 0 || err != api.OK || !term.Right(c) {
+		t.Error(at, err)
+	}
+	if e, at, err := ParseExpr(signs); at != 0 || err != api.OK || !term.RightExpr(e) {
+		t.Error(at, err)
+	}
 	wide := "zero"
 	for range 7 {
 		wide = "and(" + wide + "," + wide + ")"

@@ -123,6 +123,19 @@ func TestSizes(t *testing.T) {
 			t.Error(c, "another block", b.Size(), one.Size())
 		}
 	}
+	for _, c := range []struct {
+		size int
+		l    []block.Pair
+	}{{64, []block.Pair{{Key: "a", Value: strings.Repeat("v", 52)}}}, {1 << 40, []block.Pair{{Key: "a", Value: strings.Repeat("v", 16000)}, {Key: "b", Value: strings.Repeat("v", 366)}}}} {
+		b := NewBuilder(c.size)
+		for _, p := range c.l {
+			b.Add(p.Key, p.Value)
+		}
+		size, last := b.Size(), c.l[len(c.l)-1].Key
+		if b.Add(last, "") != api.ErrArg || b.Add("z", "") != api.OK || b.Size() != size+3+1+8+12 || size != min(c.size, 16384)+12 {
+			t.Error("it has just the builder's size", size, b.Size())
+		}
+	}
 	b := NewBuilder(64)
 	v := strings.Repeat("v", 60)
 	for i := range 4096 {
@@ -245,6 +258,7 @@ func TestForm(t *testing.T) {
 		"more behind":      good + "x",
 		"end of 16":        f + index() + framing("1234567812345678"),
 		"end of 32":        f + index() + framing("12345678123456781234567812345678"),
+		"a shorter end":    f + index() + framing(new(codec.Writer).Fixed8(0).Fixed8(uint64(len(f))).Bytes()) + "12345678",
 		"filter elsewhere": f + index() + end(1, len(f), 0),
 		"index elsewhere":  f + index() + end(0, len(f)+1, 0),
 		"index at the end": f + index() + end(0, len(f)+16, 0),
@@ -278,6 +292,7 @@ func TestForm(t *testing.T) {
 		"not above":        fromBlocks(4, filter, a, []block.Pair{{Key: "b", Value: "x"}, {Key: "c", Value: "3"}}),
 		"no block":         framing("12345678901") + f + index(0, 23) + end(23, 23+len(f), 2),
 		"another last key": framing("\x00\x01\x01a1\x00\x00\x00\x00\x00\x00\x00\x01") + f + index(0, 25) + end(25, 25+len(f), 1),
+		"twelve bytes":     "123456789012" + f + index(0, 12) + end(12, 12+len(f), 0),
 		"an empty block":   framing("\x00\x00\x00\x00") + f + index(0, 16) + end(16, 16+len(f), 0),
 		"a frame and more": framing("\x00\x01\x01b1\x00\x00\x00\x00\x00\x00\x00\x01") + "x" + f + index(0, 26) + end(26, 26+len(f), 1),
 	} {

@@ -52,6 +52,17 @@ func TestOpen(t *testing.T) {
 			t.Error(name, err)
 		}
 	}
+	for _, name := range []string{"abcdefgh", "az"} {
+		if w, _, err := Open(disk.New(0), name); w == nil || err != api.OK {
+			t.Error(name, err)
+		}
+	}
+	off := disk.New(0)
+	off.Arm(0)
+	off.Sync("x")
+	if w, _, err := Open(off, "w"); w != nil || err != api.ErrOff {
+		t.Error("off, and empty", err)
+	}
 	if w, _, err := Open(nil, "w"); w != nil || err != api.ErrArg {
 		t.Error("no disk", err)
 	}
@@ -73,7 +84,7 @@ func TestOpen(t *testing.T) {
 	if s, _ := d.Read("w.000000.ack"); s != marked(1) {
 		t.Errorf("%x", s)
 	}
-	for _, name := range []string{"x.000005.log", "w.000009.new", "w.0000007.log", "w.00007.log", "w.+00007.log", "w.-00007.log", "w.00000a.log", "w.000007.tmp", "w.1000000.log", "ww.000008.log"} {
+	for _, name := range []string{"x.000005.log", "w.000009.new", "w.0000007.log", "w.00007.log", "w.+00007.log", "w.-00007.log", "w.00000a.log", "w.000007.tmp", "w.1000000.log", "ww.000008.log", "000005.log"} {
 		put(d, name, "junk")
 	}
 	w, l = open(t, d)
@@ -107,6 +118,7 @@ func TestSeal(t *testing.T) {
 		{framed("a") + framed("b"), marked(2) + marked(seals+1), []string{"a", "b"}, api.OK, marked(2) + marked(seals+1)},
 		{framed("a"), marked(seals + 2), nil, api.ErrCorrupt, marked(seals + 2)},
 		{framed("a"), "123456789012" + marked(1), []string{"a"}, api.OK, "123456789012" + marked(1)},
+		{framed("a"), marked(1) + marked(5)[:8] + "abcd", []string{"a"}, api.OK, marked(1) + marked(5)[:8] + "abcd"},
 		{framed("a"), "x" + marked(1), []string{"a"}, api.OK, marked(seals + 1)},
 		{framed("a"), marked(1) + marked(131073) + marked(seals-1) + marked(seals+131073), []string{"a"}, api.OK, marked(1) + marked(131073) + marked(seals-1) + marked(seals+131073)},
 		{framed("a"), marked(131072), nil, api.ErrCorrupt, marked(131072)},
@@ -206,7 +218,7 @@ func TestAppend(t *testing.T) {
 		t.Error("Least")
 	}
 	want(t, "Append", w.Append("a"), api.OK)
-	if w.Least(5) != 5 || w.Least(999999) != 999999 {
+	if w.Least(5) != 5 || w.Rotate() != 6 || w.Least(999999) != 999999 {
 		t.Error("Least")
 	}
 	want(t, "the last segment", w.Append("b"), api.OK)
@@ -242,6 +254,15 @@ func TestGreat(t *testing.T) {
 	}
 	if f, _ := d.Read("w.000000.log"); len(f) != 8*131072 {
 		t.Error(len(f))
+	}
+	last := disk.New(1 << 22)
+	w, _ = open(t, last)
+	w.Least(999999)
+	for range 8 {
+		want(t, "Append", w.Append(s), api.OK)
+	}
+	if w.Append(s) != api.ErrLong || w.Number() != 999999 {
+		t.Error("behind the last segment", w.Number())
 	}
 	if _, l := open(t, d); len(l) != 9 || l[7].Segment != 0 || l[8].Segment != 1 {
 		t.Error(len(l))
