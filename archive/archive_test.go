@@ -222,6 +222,11 @@ func TestUnsound(t *testing.T) {
 			t.Error(i, err)
 		}
 	}
+	wrong := shelf(t, disk.New(1<<20))
+	wrong.Store().Write([]lsm.Op{{Key: "a.1", Value: "junk"}})
+	if ids, err := wrong.Ids(); ids != nil || err != api.ErrCorrupt {
+		t.Error(ids, err)
+	}
 	h := shelf(t, disk.New(900))
 	want(t, "full", h.Import(write(t, item("a", 0), item("b", 90))), api.ErrFull)
 	if ids, err := h.Ids(); !slices.Equal(ids, []string{"a"}) || err != api.OK {

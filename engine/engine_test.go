@@ -266,6 +266,12 @@ func TestErrors(t *testing.T) {
 	do(t, g, fix("Y", 0), api.OK)
 	do(t, g, choose("c", "ann", 1, 0), api.ErrRange)
 	do(t, g, tick(1), api.OK)
+	last := disk.New(10000)
+	do(t, opened(t, last), tick(api.MaxDay), api.OK)
+	do(t, opened(t, last), tick(api.MaxDay), api.ErrState)
+	if opened(t, last).Day() != api.MaxDay {
+		t.Error("the last day")
+	}
 	do(t, g, tick(1), api.ErrState)
 	do(t, g, fix("X", 2), api.OK)
 	do(t, g, novate("c", "ann", "cid"), api.OK)
@@ -350,7 +356,8 @@ func TestPairs(t *testing.T) {
 	for k, v := range map[string]string{
 		"m": "\x05\x03", "b.ann.USD": "\x02", "b.bob.USD": "\x01", "f.SPX.2932891": "\x05", "e.0000000000": "\x02\x00\x00\x00\x00\x05\x00\x00\x00",
 		"c.c": "\x01c\x03ann\x03bob\x08one(USD)\x05\x05\x02\x00\x00", "e.0000000002": "\x01\x01c\x03ann\x03bob\x08one(USD)\x05\x00\x00\x00",
-		"q.req": "\x19\x01\x01c\x03ann\x03bob\x09one( USD)\x00\x00\x00\x00" + "\x01\x03bob\x03ann\x03USD\x02",
+		"e.0000000001": "\x03\x00\x03SPX\x00\x00\x05\x00\x00\x05",
+		"q.req":        "\x19\x01\x01c\x03ann\x03bob\x09one( USD)\x00\x00\x00\x00" + "\x01\x03bob\x03ann\x03USD\x02",
 	} {
 		if got, is, err := g.Store().Get(k); got != v || !is || err != api.OK {
 			t.Errorf("%s: %q %v %d", k, got, is, err)
@@ -415,6 +422,25 @@ func TestCorrupt(t *testing.T) {
 			t.Error(i, c.op, err)
 		}
 	}
+	for i, ops := range [][]lsm.Op{
+		{{Key: "e.0000000004", Value: "\x07\x02zz\x00\x00\x00\x00\x00\x00\x00"}, {Key: "m", Value: "\x00\x05"}}, // nothing of that id is filed
+		{{Key: "e.0000000000", Value: "\x03\x00\x01X\x00\x00\x03\x00\x00\x0a"}},                                 // on a day that isn't there yet
+		{{Key: "e.0000000002", Value: "\x01\x01d\x03ann\x03bob\x08one(USD)\x03\x00\x00\x00"}},
+		{{Key: "a.e", Value: "\x01e\x03ann\x03bob\x08one(USD)\x00\x00\x02\x00\x00"}},
+	} {
+		g := begin()
+		want(t, "Write", g.Store().Write(ops), api.OK)
+		if err := g.Audit(); err != api.ErrCorrupt {
+			t.Error(i, err)
+		}
+	}
+	g := begin()
+	g.Store().Write([]lsm.Op{{Key: "c.1", Value: "junk"}, {Key: "a.d.", Value: "junk"}})
+	_, e1 := g.Ids()
+	_, e2 := g.Archive()
+	if e1 != api.ErrCorrupt || e2 != api.ErrCorrupt {
+		t.Error(e1, e2)
+	}
 	for _, m := range []string{"", "\x00", "\x00\x00\x00", "\x80\x00\x00", "\xe1\x81\xb3\x01\x00"} {
 		d := disk.New(10000)
 		s, _ := lsm.Open(d, small)
@@ -475,6 +501,62 @@ func TestLong(t *testing.T) {
 	}
 	do(t, g, fix("X", 2), api.OK)
 	want(t, "Audit", g.Audit(), api.OK)
+}
+
+// P26.1: a batch has as many changes as may be, and not one more
+func TestMany(t *testing.T) {
+	for more, err := range []api.Errno{api.OK, api.ErrLong} {
+		g := fresh(t)
+		n := 0
+		for i := range 4 { // two accounts of each currency, and four contracts, f., m, e. and q.
+			from := n
+			n += 49 + more*(i/3)
+			do(t, g, open(fmt.Sprint("x", i), "when(X = 1, "+balanced(from, n)+")"), api.OK)
+		}
+		l, got := g.Do(fix("X", 1))
+		if got != err || err == api.OK && len(l) != 196 {
+			t.Error(n, len(l), got)
+		}
+		want(t, "Audit", g.Audit(), api.OK)
+	}
+}
+
+// balanced is one of each currency from a number up to another one.
+func balanced(from, to int) string {
+	if to-from == 1 {
+		return fmt.Sprint("one(C", from, ")")
+	}
+	mid := (from + to) / 2
+	return "and(" + balanced(from, mid) + ", " + balanced(mid, to) + ")"
+}
+
+// P1: on a disk with room for all bytes that are written, and twelve more, no answer is that it is full
+func TestJustRoom(t *testing.T) {
+	for seed := range int64(25) {
+		room, replies := 1<<24, ""
+		for round := range 2 {
+			r := rand.New(rand.NewSource(seed))
+			reqs = 0
+			d := disk.New(room)
+			g, err := Open(d, small)
+			s := fmt.Sprint(err)
+			for range 60 {
+				l, err := g.Do(random(r, g))
+				s += fmt.Sprint(l, err)
+				if r.Intn(3) == 0 {
+					s += fmt.Sprint(maintain(g, r))
+				}
+				if r.Intn(15) == 0 {
+					g, err = Open(d, small)
+					s += fmt.Sprint(err)
+				}
+			}
+			if round == 1 && s != replies {
+				t.Fatal(seed, room, s, replies)
+			}
+			room, replies = d.Written()+12, s
+		}
+	}
 }
 
 // everything is all that an engine tells.

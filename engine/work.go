@@ -266,7 +266,7 @@ func (t *task) settle(c event.Contract, parts []life.Part, flows []life.Flow) ap
 	if len(parts) == 0 {
 		c.State, c.Ended = event.Done, t.new.day
 	}
-	if t.ask.Kind == event.Opened || !event.Same(c, before) { // what stays as it is needn't be stored again
+	if !event.Same(c, before) { // what stays as it is needn't be stored again
 		t.new.contracts[c.Id] = c
 	}
 	return api.OK

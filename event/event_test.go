@@ -217,34 +217,38 @@ func TestForms(t *testing.T) {
 // P25.2
 func TestLong(t *testing.T) {
 	c := sound(t)
-	c.Parts = nil
 	x := parts(t, "or(zero, zero)")[0]
-	until := func(k int) []api.Expr {
-		var l []api.Expr
-		for i := range 16 {
-			e, _, err := parse.ParseExpr("a23456789012345" + " = " + strconv.Itoa(1e9+k*16+i))
-			if err != api.OK {
-				t.Fatal(err)
+	const n = 40
+	of := func(less int) Contract { // each truth has a text of its own; some of their names are shorter
+		c := c
+		c.Parts = nil
+		for k := range n {
+			p := x
+			for i := range 16 {
+				cut := min(less, 14)
+				less -= cut
+				e, _, err := parse.ParseExpr(strings.Repeat("a", 16-cut) + " = " + strconv.Itoa(1e9+k*16+i))
+				if err != api.OK {
+					t.Fatal(err)
+				}
+				p.Until = append(p.Until, e)
 			}
-			l = append(l, e)
+			c.Parts = append(c.Parts, p)
 		}
-		return l
+		return c
 	}
-	last := api.OK
-	for k := range 60 {
-		p := x
-		p.Until = until(k)
-		c.Parts = append(c.Parts, p)
-		if !Sound(c) {
-			t.Fatal(k)
-		}
-		s, err := Pack(c)
-		if err == api.OK && len(s) > 15000 || err != api.OK && s != "" {
-			t.Fatal(len(s), err)
-		}
-		last = err
+	s, err := Pack(of(16 * n * 14))
+	if err != api.OK {
+		t.Fatal("the shortest", err)
 	}
-	if last != api.ErrLong {
-		t.Error(last, strings.Count(text, "("))
+	more := 16*n*14 + len(s) - 15000
+	if s, err = Pack(of(more)); len(s) != 15000 || err != api.OK {
+		t.Fatal(len(s), err)
+	}
+	if d, err := Unpack(s); err != api.OK || !Same(d, of(more)) {
+		t.Error(err)
+	}
+	if s, err = Pack(of(more - 1)); s != "" || err != api.ErrLong || !Sound(of(more-1)) {
+		t.Error(len(s), err)
 	}
 }

@@ -106,6 +106,9 @@ func TestClear(t *testing.T) {
 	if got := Clear(l, "X"); !slices.Equal(got, []Move{{"b", "a", "X", big}, {"c", "a", "X", 1}}) {
 		t.Error(got)
 	}
+	if got := Clear([]Account{{"a", "X", 5}, {"b", "X", -2}, {"c", "X", -3}}, "X"); !slices.Equal(got, []Move{{"a", "c", "X", 3}, {"a", "b", "X", 2}}) {
+		t.Error("of the lesser", got)
+	}
 	if got := Clear([]Account{{"a", "X", 2}, {"b", "X", 2}, {"c", "X", -2}, {"d", "X", -2}}, "X"); !slices.Equal(got, []Move{{"a", "c", "X", 2}, {"b", "d", "X", 2}}) {
 		t.Error("of the same the first", got)
 	}

@@ -105,7 +105,7 @@ func TestStart(t *testing.T) {
 func TestRight(t *testing.T) {
 	or, u := contract(t, "or(zero, zero)"), expr(t, "A = 1")
 	many := func(n int) []api.Expr { return slices.Repeat([]api.Expr{u}, n) }
-	for i, l := range [][]Part{nil, {{Term: or}}, {{1, true, many(16), or}}, {{Term: contract(t, "scale(A, zero)")}, {Term: contract(t, "when(A = 1, zero)")}, {Term: contract(t, "anytime(A = 1, zero)")}}, slices.Repeat([]Part{{Term: or}}, 66)} {
+	for i, l := range [][]Part{nil, {{Term: or}}, {{1, true, many(16), or}}, {{Term: contract(t, "scale(A, zero)")}, {Term: contract(t, "when(A = 1, zero)")}, {Term: contract(t, "anytime(A = 1, zero)")}}, slices.Repeat([]Part{{Term: or}}, 66), append(slices.Repeat([]Part{{Term: or}}, 65), Part{Term: contract(t, "or(zero, or(zero, zero))")})} {
 		if !Right(l) {
 			t.Error(i)
 		}

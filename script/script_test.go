@@ -145,6 +145,19 @@ func TestLong(t *testing.T) {
 	if x, err := Print(s); x != "" || err != api.ErrLong {
 		t.Error(len(x), err)
 	}
+	s.Acts[0].Ask.Text = s.Acts[0].Ask.Text[1:]
+	for len(x) != 1<<20 {
+		if s.Acts[0].Ask.Req += "r"; len(s.Acts[0].Ask.Req) > 3 {
+			t.Fatal(len(x))
+		}
+		x, err = Print(s)
+	}
+	if _, n, e := Parse(x); err != api.OK || n != 0 || e != api.OK {
+		t.Error("just so long", err, n, e)
+	}
+	if !Right(Script{1 << 24, config, nil}) {
+		t.Error("the greatest room")
+	}
 	if _, n, err := Parse(strings.Repeat("x", 1<<20+1)); n != 0 || err != api.ErrLong {
 		t.Error(n, err)
 	}
